@@ -1,0 +1,143 @@
+package ecdsa_test
+
+import (
+	"math/big"
+)
+
+// vector is a published signature of the hash with this index (of hashes) of
+// the text.
+type vector struct {
+	text string
+	hash int
+	r, s string
+}
+
+// published are the keys of RFC 6979, A.2.5 and A.2.6, with the signatures made
+// with them.
+var published = []struct {
+	m       model
+	key     *big.Int
+	pub     spot
+	vectors []vector
+}{
+	{
+		models[0],
+		fromHex("c9afa9d845ba75166b5c215767b1d6934e50c3db36e89b127b8a622b120f6721"),
+		spot{
+			fromHex("60fed4ba255a9d31c961eb74c6356d68c049b8923b61fa6ce669622e60f29fb6"),
+			fromHex("7903fe1008b8bc99a41ae9e95628bc64f2f1b20c2d7e9f5177a3c294d4462299"),
+		},
+		[]vector{
+			{
+				"sample", 0,
+				"61340c88c3aaebeb4f6d667f672ca9759a6ccaa9fa8811313039ee4a35471d32",
+				"6d7f147dac089441bb2e2fe8f7a3fa264b9c475098fdcf6e00d7c996e1b8b7eb",
+			},
+			{
+				"sample", 1,
+				"53b2fff5d1752b2c689df257c04c40a587fababb3f6fc2702f1343af7ca9aa3f",
+				"b9afb64fdc03dc1a131c7d2386d11e349f070aa432a4acc918bea988bf75c74c",
+			},
+			{
+				"sample", 2,
+				"efd48b2aacb6a8fd1140dd9cd45e81d69d2c877b56aaf991c34d0ea84eaf3716",
+				"f7cb1c942d657c41d436c7a1b6e29f65f3e900dbb9aff4064dc4ab2f843acda8",
+			},
+			{
+				"sample", 3,
+				"0eafea039b20e9b42309fb1d89e213057cbf973dc0cfc8f129edddc800ef7719",
+				"4861f0491e6998b9455193e34e7b0d284ddd7149a74b95b9261f13abde940954",
+			},
+			{
+				"sample", 4,
+				"8496a60b5e9b47c825488827e0495b0e3fa109ec4568fd3f8d1097678eb97f00",
+				"2362ab1adbe2b8adf9cb9edab740ea6049c028114f2460f96554f61fae3302fe",
+			},
+			{
+				"test", 0,
+				"0cbcc86fd6abd1d99e703e1ec50069ee5c0b4ba4b9ac60e409e8ec5910d81a89",
+				"01b9d7b73dfaa60d5651ec4591a0136f87653e0fd780c3b1bc872ffdeae479b1",
+			},
+			{
+				"test", 1,
+				"c37edb6f0ae79d47c3c27e962fa269bb4f441770357e114ee511f662ec34a692",
+				"c820053a05791e521fcaad6042d40aea1d6b1a540138558f47d0719800e18f2d",
+			},
+			{
+				"test", 2,
+				"f1abb023518351cd71d881567b1ea663ed3efcf6c5132b354f28d3b0b7d38367",
+				"019f4113742a2b14bd25926b49c649155f267e60d3814b4c0cc84250e46f0083",
+			},
+			{
+				"test", 3,
+				"83910e8b48bb0c74244ebdf7f07a1c5413d61472bd941ef3920e623fbccebeb6",
+				"8ddbec54cf8cd5874883841d712142a56a8d0f218f5003cb0296b6b509619f2c",
+			},
+			{
+				"test", 4,
+				"461d93f31b6540894788fd206c07cfa0cc35f46fa3c91816fff1040ad1581a04",
+				"39af9f15de0db8d97e72719c74820d304ce5226e32dedae67519e840d1194e55",
+			},
+		},
+	},
+	{
+		models[1],
+		fromHex("6b9d3dad2e1b8c1c05b19875b6659f4de23c3b667bf297ba9aa47740787137d896d5724e4c70a825f872c9ea60d2edf5"),
+		spot{
+			fromHex("ec3a4e415b4e19a4568618029f427fa5da9a8bc4ae92e02e06aae5286b300c64def8f0ea9055866064a254515480bc13"),
+			fromHex("8015d9b72d7d57244ea8ef9ac0c621896708a59367f9dfb9f54ca84b3f1c9db1288b231c3ae0d4fe7344fd2533264720"),
+		},
+		[]vector{
+			{
+				"sample", 0,
+				"ec748d839243d6fbef4fc5c4859a7dffd7f3abddf72014540c16d73309834fa37b9ba002899f6fda3a4a9386790d4eb2",
+				"a3bcfa947beef4732bf247ac17f71676cb31a847b9ff0cbc9c9ed4c1a5b3facf26f49ca031d4857570ccb5ca4424a443",
+			},
+			{
+				"sample", 1,
+				"42356e76b55a6d9b4631c865445dbe54e056d3b3431766d0509244793c3f9366450f76ee3de43f5a125333a6be060122",
+				"9da0c81787064021e78df658f2fbb0b042bf304665db721f077a4298b095e4834c082c03d83028efbf93a3c23940ca8d",
+			},
+			{
+				"sample", 2,
+				"21b13d1e013c7fa1392d03c5f99af8b30c570c6f98d4ea8e354b63a21d3daa33bde1e888e63355d92fa2b3c36d8fb2cd",
+				"f3aa443fb107745bf4bd77cb3891674632068a10ca67e3d45db2266fa7d1feebefdc63eccd1ac42ec0cb8668a4fa0ab0",
+			},
+			{
+				"sample", 3,
+				"94edbb92a5ecb8aad4736e56c691916b3f88140666ce9fa73d64c4ea95ad133c81a648152e44acf96e36dd1e80fabe46",
+				"99ef4aeb15f178cea1fe40db2603138f130e740a19624526203b6351d0a3a94fa329c145786e679e7b82c71a38628ac8",
+			},
+			{
+				"sample", 4,
+				"ed0959d5880ab2d869ae7f6c2915c6d60f96507f9cb3e047c0046861da4a799cfe30f35cc900056d7c99cd7882433709",
+				"512c8cceee3890a84058ce1e22dbc2198f42323ce8aca9135329f03c068e5112dc7cc3ef3446defceb01a45c2667fdd5",
+			},
+			{
+				"test", 0,
+				"4bc35d3a50ef4e30576f58cd96ce6bf638025ee624004a1f7789a8b8e43d0678acd9d29876daf46638645f7f404b11c7",
+				"d5a6326c494ed3ff614703878961c0fde7b2c278f9a65fd8c4b7186201a2991695ba1c84541327e966fa7b50f7382282",
+			},
+			{
+				"test", 1,
+				"e8c9d0b6ea72a0e7837fea1d14a1a9557f29faa45d3e7ee888fc5bf954b5e62464a9a817c47ff78b8c11066b24080e72",
+				"07041d4a7a0379ac7232ff72e6f77b6ddb8f09b16cce0ec3286b2bd43fa8c6141c53ea5abef0d8231077a04540a96b66",
+			},
+			{
+				"test", 2,
+				"6d6defac9ab64dabafe36c6bf510352a4cc27001263638e5b16d9bb51d451559f918eedaf2293be5b475cc8f0188636b",
+				"2d46f3becbcc523d5f1a1256bf0c9b024d879ba9e838144c8ba6baeb4b53b47d51ab373f9845c0514eefb14024787265",
+			},
+			{
+				"test", 3,
+				"8203b63d3c853e8d77227fb377bcf7b7b772e97892a80f36ab775d509d7a5feb0542a7f0812998da8f1dd3ca3cf023db",
+				"ddd0760448d42d8a43af45af836fce4de8be06b485e9b61b827c2f13173923e06a739f040649a667bf3b828246baa5a5",
+			},
+			{
+				"test", 4,
+				"a0d5d090c9980faf3c2ce57b7ae951d31977dd11c775d314af55f76c676447d06fb6495cd21b4b6e340fc236584fb277",
+				"976984e59b4c77b0e8e4460dca3d9f20e07b9bb1f63beefaf576f6b2e8b224634a2092cd3792e0159ad9cee37659c736",
+			},
+		},
+	},
+}
